@@ -5,6 +5,7 @@ import (
 	"math/rand"
 	"reflect"
 	"slices"
+	"strings"
 	"testing"
 	"unsafe"
 
@@ -58,13 +59,7 @@ func ask(x *handed) *answered {
 func told(x any) string { return fmt.Sprintf("%+v", x) }
 
 // loan is a text in memory that can be changed.
-func loan(s string) string {
-	if s == "" {
-		return ""
-	}
-	b := []byte(s)
-	return unsafe.String(&b[0], len(b))
-}
+func loan(s string) string { return strings.Clone(s) }
 
 // mark is what stands in a list's room: taken for what stands in the list, it
 // would change an answer.
